@@ -1,0 +1,156 @@
+package tree
+
+import (
+	"crypto/sha256"
+	"errors"
+	"fmt"
+	"maps"
+	"math/rand"
+	"slices"
+	"strings"
+	"testing"
+
+	"trove/api"
+	"trove/fault"
+)
+
+func hash(width int, s string) string {
+	d := sha256.Sum256([]byte(s))
+	return string(d[:width])
+}
+
+func keyOf(c api.Coin) string { return c.Tx + string([]byte{byte(c.N)}) }
+
+// bitText tells a key as a text of 0 and 1.
+func bitText(key string) string {
+	var s strings.Builder
+	for i := range len(key) {
+		fmt.Fprintf(&s, "%08b", key[i])
+	}
+	return s.String()
+}
+
+// rootOf works the digest of a state out as the document says it, from all its coins at once.
+func rootOf(width int, state map[string]string) string {
+	if len(state) == 0 {
+		return hash(width, "E")
+	}
+	keys := slices.Sorted(maps.Keys(state))
+	if len(keys) == 1 {
+		return hash(width, "L"+keys[0]+state[keys[0]])
+	}
+	least, greatest := bitText(keys[0]), bitText(keys[len(keys)-1])
+	b := 0
+	for least[b] == greatest[b] {
+		b++
+	}
+	sides := [2]map[string]string{{}, {}}
+	for _, key := range keys {
+		sides[bitText(key)[b]-'0'][key] = state[key]
+	}
+	return hash(width, "N"+string([]byte{byte(b >> 8), byte(b)})+rootOf(width, sides[0])+rootOf(width, sides[1]))
+}
+
+func outText(o api.Out) string {
+	s := ""
+	for i := 7; i >= 0; i-- {
+		s += string([]byte{byte(o.Amount >> (8 * i))})
+	}
+	return s + string([]byte{o.Owner})
+}
+
+func TestTreeAgainstTheDocument(t *testing.T) {
+	for _, width := range []int{1, 2, 32} {
+		r := rand.New(rand.NewSource(int64(width)))
+		tree, state, outs := Empty(width), map[string]string{}, map[string]api.Out{}
+		coins := someCoins(r, width)
+		for step := range 600 {
+			c := coins[r.Intn(len(coins))]
+			out := api.Out{Amount: r.Uint64(), Owner: uint8(r.Intn(256))}
+			_, there := state[keyOf(c)]
+			before := tree.Digest()
+			if r.Intn(2) == 0 {
+				next, err := tree.With(c, out)
+				if there != errors.Is(err, fault.Exists) || (err != nil) != there {
+					t.Fatalf("With a coin that is there (%v): %v", there, err)
+				}
+				if err == nil {
+					checkSame(t, tree, before)
+					tree, state[keyOf(c)], outs[keyOf(c)] = next, outText(out), out
+				}
+			} else {
+				next, old, err := tree.Without(c)
+				if there == errors.Is(err, fault.Input) || (err == nil) != there {
+					t.Fatalf("Without a coin that is there (%v): %v", there, err)
+				}
+				if err == nil {
+					checkSame(t, tree, before)
+					if old != outs[keyOf(c)] {
+						t.Fatalf("Without tells the output %v, want %v", old, outs[keyOf(c)])
+					}
+					tree = next
+					delete(state, keyOf(c))
+				}
+			}
+			if got, want := tree.Digest(), rootOf(width, state); got != want {
+				t.Fatalf("width %d, step %d, %d coins: digest %x, want %x", width, step, len(state), got, want)
+			}
+		}
+	}
+}
+
+// someCoins are coins of which many have ids that are alike in their first bytes or are different in one bit alone.
+func someCoins(r *rand.Rand, width int) []api.Coin {
+	var coins []api.Coin
+	for i := range 20 {
+		id := []byte(strings.Repeat("m", width))
+		if i%2 == 0 {
+			r.Read(id)
+		} else {
+			id[r.Intn(width)] ^= 1 << r.Intn(8)
+		}
+		for n := range api.MaxOuts {
+			coins = append(coins, api.Coin{Tx: string(id), N: n})
+		}
+	}
+	return coins
+}
+
+func checkSame(t *testing.T, tree Tree, digest string) {
+	t.Helper()
+	if tree.Digest() != digest {
+		t.Fatalf("a tree was changed")
+	}
+}
+
+func TestNoCoins(t *testing.T) {
+	one, err := Empty(4).With(api.Coin{Tx: "abcd", N: 1}, api.Out{})
+	if err != nil {
+		t.Fatal(err)
+	}
+	none, _, err := one.Without(api.Coin{Tx: "abcd", N: 1})
+	if err != nil || none.Digest() != hash(4, "E") || Empty(4).Digest() != hash(4, "E") {
+		t.Errorf("the digest of no coins is %x (%v), want %x", none.Digest(), err, hash(4, "E"))
+	}
+}
+
+func TestDownStopsWhenNoMoreIsWanted(t *testing.T) {
+	tree := Empty(1)
+	for i := range 8 {
+		next, err := tree.With(api.Coin{Tx: string([]byte{byte(1 << i)})}, api.Out{})
+		if err != nil {
+			t.Fatal(err)
+		}
+		tree = next
+	}
+	seen := 0
+	for range tree.down("\x01\x00") {
+		seen++
+		if seen == 3 {
+			break
+		}
+	}
+	if seen != 3 {
+		t.Errorf("%d nodes were seen, 3 were wanted", seen)
+	}
+}

@@ -1,0 +1,108 @@
+package trove_test
+
+import (
+	"reflect"
+	"testing"
+	"unsafe"
+
+	"trove/api"
+	"trove/trove"
+)
+
+// lent is a text whose bytes can be written over later.
+func lent(s string) (string, []byte) {
+	b := []byte(s)
+	return unsafe.String(&b[0], len(b)), b
+}
+
+// roomy is a list with spare room, in which something stands.
+func roomy[T any](mark T, items ...T) []T {
+	whole := append(append([]T{}, items...), mark, mark)
+	return whole[:len(items)]
+}
+
+// whole is a list with its spare room.
+func whole[T any](list []T) []T { return list[:cap(list)] }
+
+func TestP2NewKeepsAndWritesNothing(t *testing.T) {
+	mark := out(77, 7)
+	outs := roomy(mark, out(5, 1), out(6, 2))
+	before := append([]api.Out{}, whole(outs)...)
+	l := ledger(t, 32, outs...)
+	if !reflect.DeepEqual(whole(outs), before) {
+		t.Errorf("P2: New wrote into what was handed in: %v", whole(outs))
+	}
+	m := newModel(32, []api.Out{out(5, 1), out(6, 2)})
+	c := firstCoin(32, 0, outs)
+	clear(whole(outs))
+	checkAlike(t, l, m)
+	if e := m.submit(take(t, l, pay(c, out(5, 9)))); e != api.OK {
+		t.Errorf("P2: New kept what was handed in: the block is refused: %d", e)
+	}
+}
+
+func TestP2SealKeepsAndWritesNothing(t *testing.T) {
+	first := []api.Out{out(5, 1), out(6, 2)}
+	l, m := ledger(t, 32, first...), newModel(32, first)
+	markCoin := api.Coin{Tx: "mark", N: 9}
+	id, bytes := lent(firstCoin(32, 0, first).Tx)
+	ins := roomy(markCoin, api.Coin{Tx: id, N: 0}, api.Coin{Tx: id, N: 1})
+	outs := roomy(out(77, 7), out(4, 4))
+	txs := roomy(api.Tx{Ins: []api.Coin{markCoin}}, api.Tx{Ins: ins, Outs: outs})
+	want, _ := m.seal(txs)
+	for range 2 {
+		if got, e := l.Seal(txs); got != want || e != api.OK {
+			t.Fatalf("P2: Seal = %x, %d, want %x", got, e, want)
+		}
+	}
+	got, _ := l.Seal(txs)
+	if !reflect.DeepEqual(whole(ins)[2:], []api.Coin{markCoin, markCoin}) ||
+		!reflect.DeepEqual(whole(outs), []api.Out{out(4, 4), out(77, 7), out(77, 7)}) ||
+		!reflect.DeepEqual(whole(txs)[1], api.Tx{Ins: []api.Coin{markCoin}}) ||
+		ins[0].Tx != firstCoin(32, 0, first).Tx || ins[0].N != 0 || ins[1].N != 1 {
+		t.Errorf("P2: Seal wrote into what was handed in: %v, %v, %v", whole(ins), whole(outs), whole(txs))
+	}
+	clear(bytes)
+	clear(outs)
+	if got != want {
+		t.Errorf("P2: what Seal answered shares memory with what was handed in")
+	}
+	if e := l.Submit(got); e != api.OK {
+		t.Errorf("P7: Submit = %d", e)
+	}
+}
+
+func TestP2SubmitKeepsNothing(t *testing.T) {
+	first := []api.Out{out(5, 1)}
+	l, m := ledger(t, 8, first...), newModel(8, first)
+	x := pay(firstCoin(8, 0, first), out(3, 1), out(2, 2))
+	sealed, _ := m.seal([]api.Tx{x})
+	m.submit(sealed)
+	block, bytes := lent(sealed)
+	if e := l.Submit(block); e != api.OK {
+		t.Fatalf("P7: Submit = %d", e)
+	}
+	clear(bytes)
+	checkAlike(t, l, m)
+	if e := m.submit(take(t, l, pay(madeCoin(8, x, 1), out(1, 1)))); e != api.OK {
+		t.Errorf("P2: Submit kept what was handed in: the next block is refused: %d", e)
+	}
+	checkAlike(t, l, m)
+}
+
+func TestP2DigestSharesNothing(t *testing.T) {
+	s, bytes := lent("abc")
+	d, _ := trove.Digest(3, s)
+	clear(bytes)
+	if d != "\xba\x78\x16" {
+		t.Errorf("P2: the digest changed with what was handed in: %x", d)
+	}
+}
+
+func TestP2LedgersDoNotMeet(t *testing.T) {
+	first := []api.Out{out(5, 1)}
+	a, b := ledger(t, 8, first...), ledger(t, 8, first...)
+	take(t, a, pay(firstCoin(8, 0, first)))
+	checkAlike(t, b, newModel(8, first))
+	take(t, b, pay(firstCoin(8, 0, first), out(5, 2)))
+}

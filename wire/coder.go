@@ -1,0 +1,105 @@
+package wire
+
+import (
+	"trove/api"
+	"trove/fault"
+)
+
+// Coder goes through the parts of things, in their order, by a port: so the form of each thing stands
+// here once, for reading and for writing. Its methods answer the thing as the port knows it. Behind the
+// first part that is wrong nothing is read or written any more, and an answer says nothing: Done tells.
+type Coder struct {
+	port  Port
+	width int
+	err   error
+}
+
+// Header is a header, part by part.
+type Header struct {
+	Height uint64
+	Ahead  string
+	Body   string
+	State  string
+}
+
+// Number is a number in so many bytes.
+func (c *Coder) Number(n uint64, size int) uint64 {
+	if c.err != nil {
+		return 0
+	}
+	n, c.err = c.port.number(n, size)
+	return n
+}
+
+// Text is a text of so many bytes.
+func (c *Coder) Text(s string, size int) string {
+	if c.err != nil {
+		return ""
+	}
+	s, c.err = c.port.text(s, size)
+	return s
+}
+
+func (c *Coder) digest(s string) string { return c.Text(s, c.width) }
+
+// Coin is a coin: its key.
+func (c *Coder) Coin(coin api.Coin) api.Coin {
+	tx := c.digest(coin.Tx)
+	// A number below 0 is a very great one here, which no byte holds.
+	n := c.Number(uint64(coin.N), 1)
+	if n >= api.MaxOuts {
+		c.err = fault.Form
+	}
+	return api.Coin{Tx: tx, N: int(n)}
+}
+
+// Out is an output.
+func (c *Coder) Out(out api.Out) api.Out {
+	amount := c.Number(out.Amount, 8)
+	owner := c.Number(uint64(out.Owner), 1)
+	return api.Out{Amount: amount, Owner: uint8(owner)}
+}
+
+// Tx is a transaction.
+func (c *Coder) Tx(tx api.Tx) api.Tx {
+	ins := list(c, "coin", tx.Ins, 1, api.MaxIns, c.Coin)
+	outs := list(c, "output", tx.Outs, 0, api.MaxOuts, c.Out)
+	return api.Tx{Ins: ins, Outs: outs}
+}
+
+// FirstOuts are the first outputs of a ledger.
+func (c *Coder) FirstOuts(outs []api.Out) []api.Out {
+	return list(c, "output", outs, 1, api.MaxOuts, c.Out)
+}
+
+// Body is the body of a block.
+func (c *Coder) Body(txs []api.Tx) []api.Tx {
+	return list(c, "transaction", txs, 0, api.MaxTxs, c.Tx)
+}
+
+// Header is a header.
+func (c *Coder) Header(h Header) Header {
+	height := c.Number(h.Height, 4)
+	ahead := c.digest(h.Ahead)
+	body := c.digest(h.Body)
+	state := c.digest(h.State)
+	return Header{Height: height, Ahead: ahead, Body: body, State: state}
+}
+
+// list is how many parts there are, in 1, and the parts. It answers a new list: a writer's is not written into.
+func list[T any](c *Coder, what string, items []T, least, most uint64, part func(T) T) []T {
+	count := c.Number(uint64(len(items)), 1)
+	if c.err == nil && (count < least || count > most) {
+		c.err = fault.At("number of "+what+"s", fault.Form)
+	}
+	if c.err != nil {
+		return nil
+	}
+	parts := make([]T, count)
+	copy(parts, items)
+	c.err = fault.Each(what, parts, func(i int, p T) error {
+		parts[i] = part(p)
+		return c.err
+	})
+	return parts
+}
