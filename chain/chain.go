@@ -54,11 +54,25 @@ func (c *Chain) Tip() int { return len(c.blocks) - 1 }
 
 // Header tells the header of a height.
 func (c *Chain) Header(height int) (string, error) {
+	b, err := c.at(height)
+	return b.header, err
+}
+
+// Query tells the proof of what a coin is at a height.
+func (c *Chain) Query(height int, coin api.Coin) (string, error) {
+	b, err := c.at(height)
+	if err != nil {
+		return "", err
+	}
+	return b.state.Prove(coin)
+}
+
+func (c *Chain) at(height int) (block, error) {
 	b, ok := c.blocks[height]
 	if !ok {
-		return "", fault.At("height", fault.Range)
+		return block{}, fault.At("height", fault.Range)
 	}
-	return b.header, nil
+	return b, nil
 }
 
 // Seal tells the next block with these transactions.

@@ -35,6 +35,12 @@ func TestErrorsAreWrappedWithTheirPlaces(t *testing.T) {
 	if _, err := c.Header(1); !errors.Is(err, fault.Range) {
 		t.Errorf("Header(1) tells %v", err)
 	}
+	if _, err := c.Query(1, missing); !errors.Is(err, fault.Range) || !strings.HasPrefix(err.Error(), "height: ") {
+		t.Errorf("Query above the tip tells %v", err)
+	}
+	if _, err := c.Query(0, api.Coin{}); !errors.Is(err, fault.Form) || !strings.HasPrefix(err.Error(), "coin: ") {
+		t.Errorf("Query of no coin tells %v", err)
+	}
 	if err := c.Submit("none"); !errors.Is(err, fault.Form) {
 		t.Errorf("Submit of no block tells %v", err)
 	}

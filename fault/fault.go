@@ -15,6 +15,8 @@ var (
 	Sum    = errors.New("more goes out than comes in, or a sum is too great")
 	Root   = errors.New("not the state that was told")
 	Range  = errors.New("a height that is not kept")
+	Astray = errors.New("a way that does not lead to the coin")
+	Alike  = errors.New("nothing that is different")
 )
 
 // Place is an error with where it happened.

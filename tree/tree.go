@@ -7,6 +7,7 @@ import (
 	"trove/api"
 	"trove/digest"
 	"trove/fault"
+	"trove/keys"
 	"trove/wire"
 )
 
@@ -23,14 +24,14 @@ func Empty(width int) Tree { return Tree{width: width} }
 // Digest tells the digest of the state.
 func (t Tree) Digest() string {
 	if t.root == nil {
-		return digest.Of(t.width, "E")
+		return digest.Of(t.width, wire.EmptyText)
 	}
 	return t.root.digest
 }
 
 // With is the tree with one more coin.
 func (t Tree) With(coin api.Coin, out api.Out) (Tree, error) {
-	key, err := t.key(coin)
+	key, err := keys.Of(t.width, coin)
 	if err != nil {
 		return Tree{}, err
 	}
@@ -45,13 +46,13 @@ func (t Tree) With(coin api.Coin, out api.Out) (Tree, error) {
 	if near.key == key {
 		return Tree{}, fault.Exists
 	}
-	root, err := t.graft(t.root, leaf, firstDifference(near.key, key))
+	root, err := t.graft(t.root, leaf, keys.FirstDifference(near.key, key))
 	return Tree{t.width, root}, err
 }
 
 // Without is the tree with one coin less, and the output of this coin.
 func (t Tree) Without(coin api.Coin) (Tree, api.Out, error) {
-	key, err := t.key(coin)
+	key, err := keys.Of(t.width, coin)
 	if err != nil {
 		return Tree{}, api.Out{}, err
 	}
@@ -63,10 +64,28 @@ func (t Tree) Without(coin api.Coin) (Tree, api.Out, error) {
 	return Tree{t.width, root}, near.out, err
 }
 
-func (t Tree) key(coin api.Coin) (string, error) {
+// Prove tells the proof of what a coin is, by the digest of the state.
+func (t Tree) Prove(coin api.Coin) (string, error) {
+	key, err := keys.Of(t.width, coin)
+	if err != nil {
+		return "", fault.At("coin", err)
+	}
 	w := wire.NewWriter(t.width)
-	w.Coin(coin)
+	w.Way(t.wayTo(key))
 	return w.Done()
+}
+
+// wayTo is the way down to which the bits of a key lead.
+func (t Tree) wayTo(key string) wire.Way {
+	var way wire.Way
+	for n := range t.down(key) {
+		if n.isLeaf() {
+			way.HasLeaf, way.Leaf = true, wire.Leaf{Key: n.key, Out: n.out}
+			break
+		}
+		way.Steps = append(way.Steps, wire.Step{Bit: n.bit, Other: n.besides(key).digest})
+	}
+	return way
 }
 
 // down goes from the root to a leaf, by the bits of a key.
@@ -90,9 +109,9 @@ func (t Tree) nearest(key string) *node {
 // graft puts a leaf in below a node, where its key is different for the first time, at a bit.
 func (t Tree) graft(n, leaf *node, bit int) (*node, error) {
 	if n.isLeaf() || n.bit > bit {
-		return newBranch(t.width, bit, n.pairedWith(leaf, bitOf(leaf.key, bit)))
+		return newBranch(t.width, bit, n.pairedWith(leaf, keys.Bit(leaf.key, bit)))
 	}
-	at := bitOf(leaf.key, n.bit)
+	at := keys.Bit(leaf.key, n.bit)
 	below, err := t.graft(n.sides[at], leaf, bit)
 	if err != nil {
 		return nil, err
@@ -105,7 +124,7 @@ func (t Tree) cut(n *node, key string) (*node, error) {
 	if n.isLeaf() {
 		return nil, nil
 	}
-	at := bitOf(key, n.bit)
+	at := keys.Bit(key, n.bit)
 	other := n.sides[1-at]
 	below, err := t.cut(n.sides[at], key)
 	if err != nil || below == nil {

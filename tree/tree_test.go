@@ -154,3 +154,39 @@ func TestDownStopsWhenNoMoreIsWanted(t *testing.T) {
 		t.Errorf("%d nodes were seen, 3 were wanted", seen)
 	}
 }
+
+func TestProve(t *testing.T) {
+	a, b, c := api.Coin{Tx: "ab", N: 0}, api.Coin{Tx: "ab", N: 1}, api.Coin{Tx: "\xffb", N: 2}
+	tree := Empty(2)
+	if p, err := tree.Prove(a); p != "\x00\x00" || err != nil {
+		t.Errorf("Prove where there are no coins = %x, %v", p, err)
+	}
+	leaves := map[api.Coin]string{}
+	for i, coin := range []api.Coin{a, b, c} {
+		out := api.Out{Amount: uint64(i), Owner: 9}
+		leaves[coin] = keyOf(coin) + outText(out)
+		next, err := tree.With(coin, out)
+		if err != nil {
+			t.Fatal(err)
+		}
+		tree = next
+	}
+	digest := func(coin api.Coin) string { return hash(2, "L"+leaves[coin]) }
+	below := hash(2, "N\x00\x17"+digest(a)+digest(b))
+	for coin, want := range map[api.Coin]string{
+		a:                      "\x00\x02\x00\x00" + digest(c) + "\x00\x17" + digest(b) + leaves[a],
+		b:                      "\x00\x02\x00\x00" + digest(c) + "\x00\x17" + digest(a) + leaves[b],
+		c:                      "\x00\x01\x00\x00" + below + leaves[c],
+		{Tx: "\x80\x00"}:       "\x00\x01\x00\x00" + below + leaves[c],
+		{Tx: "\x7fx"}:          "\x00\x02\x00\x00" + digest(c) + "\x00\x17" + digest(b) + leaves[a],
+		{Tx: "\x00b", N: 1}:    "\x00\x02\x00\x00" + digest(c) + "\x00\x17" + digest(a) + leaves[b],
+		{Tx: "\x00\x00", N: 2}: "\x00\x02\x00\x00" + digest(c) + "\x00\x17" + digest(b) + leaves[a],
+	} {
+		if p, err := tree.Prove(coin); p != want || err != nil {
+			t.Errorf("Prove(%v) = %x, %v, want %x", coin, p, err, want)
+		}
+	}
+	if p, err := tree.Prove(api.Coin{Tx: "ab", N: 3}); p != "" || !errors.Is(err, fault.Form) {
+		t.Errorf("Prove of no coin = %x, %v", p, err)
+	}
+}

@@ -1,6 +1,7 @@
 package trove_test
 
 import (
+	"math/rand"
 	"reflect"
 	"testing"
 	"unsafe"
@@ -96,6 +97,39 @@ func TestP2DigestSharesNothing(t *testing.T) {
 	clear(bytes)
 	if d != "\xba\x78\x16" {
 		t.Errorf("P2: the digest changed with what was handed in: %x", d)
+	}
+}
+
+func TestP2QueryKeepsNothingAndAnswersAlike(t *testing.T) {
+	l, m := grown(t, 8, rand.New(rand.NewSource(3)), 20)
+	for key := range m.state {
+		c := coinOf(key)
+		want, _ := m.query(m.tip(), c)
+		id, bytes := lent(c.Tx)
+		first, _ := l.Query(m.tip(), api.Coin{Tx: id, N: c.N})
+		clear(bytes)
+		second, _ := l.Query(m.tip(), c)
+		if first != want || second != want {
+			t.Errorf("P2: Query answers %x, and then %x, want %x", first, second, want)
+		}
+	}
+	checkAlike(t, l, m)
+}
+
+func TestP2ExtractSharesNothing(t *testing.T) {
+	key, near := "k\x00", "k\x01"
+	state := hash(1, leafText(key, out(5, 1)))
+	wantP, wantQ := leafText(key, out(5, 1)), leafText(near, out(meetingAmount(t, near, state, 0), 1))
+	p, pBytes := lent("\x00\x00" + wantP[1:])
+	q, qBytes := lent("\x00\x00" + wantQ[1:])
+	header, headerBytes := lent(headerOf(1, state))
+	id, idBytes := lent("k")
+	a, b, ok := trove.Extract(1, header, api.Coin{Tx: id, N: 0}, p, q)
+	for _, lentBytes := range [][]byte{pBytes, qBytes, headerBytes, idBytes} {
+		clear(lentBytes)
+	}
+	if !ok || a != wantP || b != wantQ {
+		t.Errorf("P2: Extract = %x, %x, %v, want %x, %x", a, b, ok, wantP, wantQ)
 	}
 }
 

@@ -15,7 +15,8 @@ import (
 type model struct {
 	width   int
 	headers []string
-	state   map[string]api.Out
+	states  []map[string]api.Out
+	state   map[string]api.Out // at the tip
 }
 
 func hash(width int, s string) string {
@@ -69,14 +70,9 @@ func madeCoin(width int, x api.Tx, n int) api.Coin {
 
 func bit(key string, b int) byte { return key[b/8] >> (7 - b%8) & 1 }
 
-func root(width int, state map[string]api.Out) string {
+// split is the first bit at which not all the keys of a state are the same, and the state's two sides there.
+func split(state map[string]api.Out) (int, [2]map[string]api.Out) {
 	keys := slices.Sorted(maps.Keys(state))
-	switch len(keys) {
-	case 0:
-		return hash(width, "E")
-	case 1:
-		return hash(width, "L"+keys[0]+outText(state[keys[0]]))
-	}
 	b := 0
 	for !slices.ContainsFunc(keys, func(k string) bool { return bit(k, b) != bit(keys[0], b) }) {
 		b++
@@ -85,7 +81,24 @@ func root(width int, state map[string]api.Out) string {
 	for _, k := range keys {
 		sides[bit(k, b)][k] = state[k]
 	}
-	return hash(width, "N"+num(uint64(b), 2)+root(width, sides[0])+root(width, sides[1]))
+	return b, sides
+}
+
+func leafText(key string, o api.Out) string { return "L" + key + outText(o) }
+
+func branchText(b int, zero, one string) string { return "N" + num(uint64(b), 2) + zero + one }
+
+func root(width int, state map[string]api.Out) string {
+	if len(state) == 0 {
+		return hash(width, "E")
+	}
+	if len(state) == 1 {
+		for k, o := range state {
+			return hash(width, leafText(k, o))
+		}
+	}
+	b, sides := split(state)
+	return hash(width, branchText(b, root(width, sides[0]), root(width, sides[1])))
 }
 
 func newModel(width int, outs []api.Out) *model {
@@ -94,6 +107,7 @@ func newModel(width int, outs []api.Out) *model {
 		m.state[keyOf(firstCoin(width, n, outs))] = o
 	}
 	m.headers = []string{num(0, 4) + strings.Repeat("\x00", width) + firstCoin(width, 0, outs).Tx + root(width, m.state)}
+	m.states = append(m.states, m.state)
 	return m
 }
 
@@ -217,6 +231,6 @@ func (m *model) submit(block string) api.Errno {
 	if header[size-m.width:] != root(m.width, state) {
 		return api.ErrRoot
 	}
-	m.headers, m.state = append(m.headers, header), state
+	m.headers, m.states, m.state = append(m.headers, header), append(m.states, state), state
 	return api.OK
 }

@@ -5,6 +5,7 @@ import (
 	"trove/api"
 	"trove/chain"
 	"trove/digest"
+	"trove/proofs"
 )
 
 // Digest tells the first bytes of a text's SHA-256 (P3).
@@ -48,16 +49,24 @@ func (l *Ledger) Seal(txs []api.Tx) (string, api.Errno) {
 func (l *Ledger) Submit(block string) api.Errno { return errno(l.chain.Submit(block)) }
 
 // Query proves what a coin is at a height (P8).
-func (l *Ledger) Query(height int, c api.Coin) (string, api.Errno) { return "", api.OK }
+func (l *Ledger) Query(height int, c api.Coin) (string, api.Errno) {
+	text, err := l.chain.Query(height, c)
+	return text, errno(err)
+}
 
 // Verify tells what a proof says, by a header alone (P9).
 func Verify(width int, header string, c api.Coin, proof string) (int, api.Out) {
-	return 0, api.Out{}
+	said, err := proofs.Verify(width, header, c, proof)
+	if err != nil {
+		return api.Bad, api.Out{}
+	}
+	return said.Kind, said.Out
 }
 
 // Extract makes two texts of one digest out of two proofs that contradict each other (P10).
 func Extract(width int, header string, c api.Coin, p string, q string) (string, string, bool) {
-	return "", "", false
+	first, second, err := proofs.Extract(width, header, c, p, q)
+	return first, second, err == nil
 }
 
 // Delta proves what is different at two heights (P11).

@@ -62,19 +62,19 @@ func (c *Coder) Out(out api.Out) api.Out {
 
 // Tx is a transaction.
 func (c *Coder) Tx(tx api.Tx) api.Tx {
-	ins := list(c, "coin", tx.Ins, 1, api.MaxIns, c.Coin)
-	outs := list(c, "output", tx.Outs, 0, api.MaxOuts, c.Out)
+	ins := list(c, parts{"coin", 1, 1, api.MaxIns}, tx.Ins, c.Coin)
+	outs := list(c, parts{"output", 1, 0, api.MaxOuts}, tx.Outs, c.Out)
 	return api.Tx{Ins: ins, Outs: outs}
 }
 
 // FirstOuts are the first outputs of a ledger.
 func (c *Coder) FirstOuts(outs []api.Out) []api.Out {
-	return list(c, "output", outs, 1, api.MaxOuts, c.Out)
+	return list(c, parts{"output", 1, 1, api.MaxOuts}, outs, c.Out)
 }
 
 // Body is the body of a block.
 func (c *Coder) Body(txs []api.Tx) []api.Tx {
-	return list(c, "transaction", txs, 0, api.MaxTxs, c.Tx)
+	return list(c, parts{"transaction", 1, 0, api.MaxTxs}, txs, c.Tx)
 }
 
 // Header is a header.
@@ -86,20 +86,30 @@ func (c *Coder) Header(h Header) Header {
 	return Header{Height: height, Ahead: ahead, Body: body, State: state}
 }
 
-// list is how many parts there are, in 1, and the parts. It answers a new list: a writer's is not written into.
-func list[T any](c *Coder, what string, items []T, least, most uint64, part func(T) T) []T {
-	count := c.Number(uint64(len(items)), 1)
-	if c.err == nil && (count < least || count > most) {
-		c.err = fault.At("number of "+what+"s", fault.Form)
+// more is whether something comes behind; the port tells, since bytes that are missing are no fault here.
+func (c *Coder) more(m bool) bool { return c.err == nil && c.port.more(m) }
+
+// parts says of a list what its parts are, in how many bytes their number stands, and what this may be.
+type parts struct {
+	what        string
+	size        int
+	least, most uint64
+}
+
+// list is how many parts there are, and the parts. It answers a new list: a writer's is not written into.
+func list[T any](c *Coder, of parts, items []T, part func(T) T) []T {
+	count := c.Number(uint64(len(items)), of.size)
+	if c.err == nil && (count < of.least || count > of.most) {
+		c.err = fault.At("number of "+of.what+"s", fault.Form)
 	}
 	if c.err != nil {
 		return nil
 	}
-	parts := make([]T, count)
-	copy(parts, items)
-	c.err = fault.Each(what, parts, func(i int, p T) error {
-		parts[i] = part(p)
+	done := make([]T, count)
+	copy(done, items)
+	c.err = fault.Each(of.what, done, func(i int, p T) error {
+		done[i] = part(p)
 		return c.err
 	})
-	return parts
+	return done
 }

@@ -3,11 +3,13 @@ package wire
 
 import "trove/fault"
 
-// Port is what a reader and a writer have in common: a number or a text, at the place where it stands.
-// A reader answers what is there, whatever it is given; a writer puts down what it is given, and answers that.
+// Port is what a reader and a writer have in common: a number or a text, at the place where it stands,
+// and whether there is more behind it. A reader answers what is there, whatever it is given; a writer puts
+// down what it is given, and answers that.
 type Port interface {
 	number(n uint64, size int) (uint64, error)
 	text(s string, size int) (string, error)
+	more(m bool) bool
 }
 
 // Reader takes things from bytes.
@@ -52,6 +54,8 @@ func (r *Reader) text(_ string, size int) (string, error) {
 	return s, nil
 }
 
+func (r *Reader) more(bool) bool { return r.rest != "" }
+
 // Writer makes bytes of things.
 type Writer struct {
 	Coder
@@ -90,3 +94,5 @@ func (w *Writer) text(s string, size int) (string, error) {
 	w.bytes = append(w.bytes, s...)
 	return s, nil
 }
+
+func (w *Writer) more(m bool) bool { return m }
