@@ -14,11 +14,12 @@ import (
 // Chain is the blocks of one ledger.
 type Chain struct {
 	width int
+	floor int
 	// By the height: ids of headers may meet, where the width is small.
 	blocks map[int]block
 }
 
-// block is what is kept of a block.
+// block is what is kept of a block; below the floor its header alone.
 type block struct {
 	header string
 	state  tree.Tree
@@ -60,11 +61,53 @@ func (c *Chain) Header(height int) (string, error) {
 
 // Query tells the proof of what a coin is at a height.
 func (c *Chain) Query(height int, coin api.Coin) (string, error) {
-	b, err := c.at(height)
+	state, err := c.stateAt(height)
 	if err != nil {
 		return "", err
 	}
-	return b.state.Prove(coin)
+	return state.Prove(coin)
+}
+
+// Delta tells the proof of what is different at two heights.
+func (c *Chain) Delta(a, b int) (string, error) {
+	first, err := c.stateAt(a)
+	if err != nil {
+		return "", err
+	}
+	second, err := c.stateAt(b)
+	if err != nil {
+		return "", err
+	}
+	return first.Difference(second)
+}
+
+// Prune forgets the states below a height.
+func (c *Chain) Prune(floor int) error {
+	if _, err := c.stateAt(floor); err != nil {
+		return fault.At("floor", err)
+	}
+	for ; c.floor < floor; c.floor++ {
+		c.blocks[c.floor] = block{header: c.blocks[c.floor].header}
+	}
+	return nil
+}
+
+// Stored tells how many different nodes the states that are kept have.
+func (c *Chain) Stored() int {
+	var kept []tree.Tree
+	for height := c.floor; height <= c.Tip(); height++ {
+		kept = append(kept, c.blocks[height].state)
+	}
+	return tree.Count(kept)
+}
+
+// stateAt tells the state of a height, as long as it is kept.
+func (c *Chain) stateAt(height int) (tree.Tree, error) {
+	if height < c.floor {
+		return tree.Tree{}, fault.At("height", fault.Range)
+	}
+	b, err := c.at(height)
+	return b.state, err
 }
 
 func (c *Chain) at(height int) (block, error) {

@@ -7,6 +7,7 @@ import (
 
 	"trove/api"
 	"trove/fault"
+	"trove/tree"
 )
 
 func TestErrorsAreWrappedWithTheirPlaces(t *testing.T) {
@@ -43,5 +44,37 @@ func TestErrorsAreWrappedWithTheirPlaces(t *testing.T) {
 	}
 	if err := c.Submit("none"); !errors.Is(err, fault.Form) {
 		t.Errorf("Submit of no block tells %v", err)
+	}
+}
+
+func TestPruneForgetsTheStatesAlone(t *testing.T) {
+	c, err := New(4, []api.Out{{Amount: 5, Owner: 1}})
+	if err != nil {
+		t.Fatal(err)
+	}
+	for range 4 {
+		block, _ := c.Seal(nil)
+		if err := c.Submit(block); err != nil {
+			t.Fatal(err)
+		}
+	}
+	for _, floor := range []int{-1, 5} {
+		if err := c.Prune(floor); !errors.Is(err, fault.Range) || !strings.HasPrefix(err.Error(), "floor: ") {
+			t.Errorf("Prune(%d) tells %v", floor, err)
+		}
+	}
+	if err := c.Prune(3); err != nil {
+		t.Fatal(err)
+	}
+	for height := range 5 {
+		forgotten := c.blocks[height].state == tree.Tree{}
+		if forgotten != (height < 3) || len(c.blocks[height].header) != 16 {
+			t.Errorf("of the height %d is kept: %v", height, c.blocks[height])
+		}
+	}
+	for _, x := range [][2]int{{2, 3}, {3, 2}, {3, 5}, {-1, 4}} {
+		if _, err := c.Delta(x[0], x[1]); !errors.Is(err, fault.Range) {
+			t.Errorf("Delta(%v) tells %v", x, err)
+		}
 	}
 }

@@ -17,6 +17,9 @@ var (
 	Range  = errors.New("a height that is not kept")
 	Astray = errors.New("a way that does not lead to the coin")
 	Alike  = errors.New("nothing that is different")
+	Twice  = errors.New("what may be there but once")
+	Unmet  = errors.New("a node that is not met")
+	Unlike = errors.New("two trees that are different in what is not told")
 )
 
 // Place is an error with where it happened.

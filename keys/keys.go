@@ -3,6 +3,7 @@ package keys
 
 import (
 	"math/bits"
+	"strings"
 
 	"trove/api"
 	"trove/wire"
@@ -13,6 +14,12 @@ func Of(width int, coin api.Coin) (string, error) {
 	w := wire.NewWriter(width)
 	w.Coin(coin)
 	return w.Done()
+}
+
+// Coin tells the coin of a key, in memory of its own.
+func Coin(key string) api.Coin {
+	last := len(key) - 1
+	return api.Coin{Tx: strings.Clone(key[:last]), N: int(key[last])}
 }
 
 // Bit tells a bit of a key; bit 0 is the greatest of the first byte.

@@ -41,3 +41,12 @@ func TestFirstDifference(t *testing.T) {
 		}
 	}
 }
+
+func TestCoin(t *testing.T) {
+	for _, c := range []api.Coin{{Tx: "ab", N: 2}, {Tx: "\x00", N: 0}} {
+		key, err := Of(len(c.Tx), c)
+		if got := Coin(key); got != c || err != nil {
+			t.Errorf("the coin of %x = %v, %v, want %v", key, got, err, c)
+		}
+	}
+}

@@ -28,16 +28,22 @@ func ask(width int, header string, coin api.Coin) (question, error) {
 	if err := digest.CheckWidth(width); err != nil {
 		return question{}, err
 	}
-	r := wire.NewReader(width, header)
-	h := r.Header(wire.Header{})
-	if err := r.Done(); err != nil {
+	state, err := stateOf(width, header)
+	if err != nil {
 		return question{}, fault.At("header", err)
 	}
 	key, err := keys.Of(width, coin)
 	if err != nil {
 		return question{}, fault.At("coin", err)
 	}
-	return question{width: width, state: h.State, key: key}, nil
+	return question{width: width, state: state, key: key}, nil
+}
+
+// stateOf tells a header's digest of the state.
+func stateOf(width int, header string) (string, error) {
+	r := wire.NewReader(width, header)
+	h := r.Header(wire.Header{})
+	return h.State, r.Done()
 }
 
 // check reads a proof, and refuses one that does not hold.
@@ -102,14 +108,14 @@ func (q question) up(way wire.Way) iter.Seq2[string, error] {
 
 func (q question) end(way wire.Way) (string, error) {
 	if !way.HasLeaf {
-		return wire.EmptyText, nil
+		return wire.EmptyLetter, nil
 	}
-	return wire.LeafText(q.width, way.Leaf)
+	return way.Leaf.Node().Text(q.width)
 }
 
 // above is the text of the branch whose one side, to which a key leads, is the node of a text.
 func (q question) above(text string, step wire.Step, key string) (string, error) {
 	sides := [2]string{step.Other, step.Other}
 	sides[keys.Bit(key, step.Bit)] = digest.Of(q.width, text)
-	return wire.BranchText(q.width, wire.Branch{Bit: step.Bit, Sides: sides})
+	return wire.Branch{Bit: step.Bit, Sides: sides}.Node().Text(q.width)
 }

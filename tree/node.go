@@ -17,19 +17,29 @@ type node struct {
 }
 
 func newLeaf(width int, key string, out api.Out) (*node, error) {
-	text, err := wire.LeafText(width, wire.Leaf{Key: key, Out: out})
-	if err != nil {
-		return nil, err
-	}
-	return &node{digest: digest.Of(width, text), key: key, out: out}, nil
+	return digested(width, node{key: key, out: out})
 }
 
 func newBranch(width, bit int, sides [2]*node) (*node, error) {
-	text, err := wire.BranchText(width, wire.Branch{Bit: bit, Sides: [2]string{sides[0].digest, sides[1].digest}})
+	return digested(width, node{bit: bit, sides: sides})
+}
+
+// digested is a node with its digest.
+func digested(width int, n node) (*node, error) {
+	text, err := n.plain().Text(width)
 	if err != nil {
 		return nil, err
 	}
-	return &node{digest: digest.Of(width, text), bit: bit, sides: sides}, nil
+	n.digest = digest.Of(width, text)
+	return &n, nil
+}
+
+// plain is the node by itself, with the digests of its sides.
+func (n *node) plain() wire.Node {
+	if n.isLeaf() {
+		return wire.Leaf{Key: n.key, Out: n.out}.Node()
+	}
+	return wire.Branch{Bit: n.bit, Sides: [2]string{n.sides[0].digest, n.sides[1].digest}}.Node()
 }
 
 func (n *node) isLeaf() bool { return n.sides[0] == nil }

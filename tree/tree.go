@@ -24,7 +24,7 @@ func Empty(width int) Tree { return Tree{width: width} }
 // Digest tells the digest of the state.
 func (t Tree) Digest() string {
 	if t.root == nil {
-		return digest.Of(t.width, wire.EmptyText)
+		return digest.Of(t.width, wire.EmptyLetter)
 	}
 	return t.root.digest
 }

@@ -190,3 +190,132 @@ func TestProve(t *testing.T) {
 		t.Errorf("Prove of no coin = %x, %v", p, err)
 	}
 }
+
+// textsOf puts down the nodes of a state's tree as the document says them.
+func textsOf(width int, state map[string]string, texts map[string]int) {
+	keys := slices.Sorted(maps.Keys(state))
+	if len(keys) == 0 {
+		texts["E"]++
+		return
+	}
+	if len(keys) == 1 {
+		texts["L"+keys[0]+state[keys[0]]]++
+		return
+	}
+	least, greatest := bitText(keys[0]), bitText(keys[len(keys)-1])
+	b := 0
+	for least[b] == greatest[b] {
+		b++
+	}
+	sides := [2]map[string]string{{}, {}}
+	for _, key := range keys {
+		sides[bitText(key)[b]-'0'][key] = state[key]
+	}
+	texts["N"+string([]byte{byte(b >> 8), byte(b)})+rootOf(width, sides[0])+rootOf(width, sides[1])]++
+	textsOf(width, sides[0], texts)
+	textsOf(width, sides[1], texts)
+}
+
+// someTrees are trees of which each has one coin more or less than the one ahead of it, and their nodes.
+func someTrees(t *testing.T, width int) ([]Tree, []map[string]int) {
+	t.Helper()
+	r := rand.New(rand.NewSource(int64(width)))
+	tree, state := Empty(width), map[string]string{}
+	trees, nodes := []Tree{tree}, []map[string]int{{"E": 1}}
+	coins := someCoins(r, width)
+	for len(trees) < 25 {
+		c, out := coins[r.Intn(len(coins))], api.Out{Amount: r.Uint64(), Owner: uint8(r.Intn(256))}
+		if _, there := state[keyOf(c)]; there {
+			tree, _, _ = tree.Without(c)
+			delete(state, keyOf(c))
+		} else {
+			tree, _ = tree.With(c, out)
+			state[keyOf(c)] = outText(out)
+		}
+		texts := map[string]int{}
+		textsOf(width, state, texts)
+		trees, nodes = append(trees, tree), append(nodes, texts)
+	}
+	return trees, nodes
+}
+
+func TestDifferenceAgainstTheDocument(t *testing.T) {
+	for _, width := range []int{1, 2, 32} {
+		trees, nodes := someTrees(t, width)
+		for i := range trees {
+			for j := range trees {
+				var texts []string
+				for text := range nodes[i] {
+					if nodes[j][text] == 0 {
+						texts = append(texts, text)
+					}
+				}
+				for text := range nodes[j] {
+					if nodes[i][text] == 0 {
+						texts = append(texts, text)
+					}
+				}
+				slices.Sort(texts)
+				want := ""
+				for _, text := range texts {
+					want += string([]byte{0, byte(len(text))}) + text
+				}
+				if got, err := trees[i].Difference(trees[j]); got != want || err != nil {
+					t.Fatalf("width %d: the difference of %d and %d is %x, %v, want %x", width, i, j, got, err, want)
+				}
+			}
+		}
+	}
+}
+
+func TestCountAgainstTheDocument(t *testing.T) {
+	for _, width := range []int{1, 2, 32} {
+		trees, nodes := someTrees(t, width)
+		for i := range trees {
+			for j := i; j <= len(trees); j++ {
+				different := map[string]int{}
+				for _, texts := range nodes[i:j] {
+					maps.Copy(different, texts)
+				}
+				if got := Count(trees[i:j]); got != len(different) {
+					t.Fatalf("width %d: the trees from %d to %d have %d nodes, want %d", width, i, j, got, len(different))
+				}
+			}
+		}
+	}
+}
+
+func TestAllStopsWhenNoMoreIsWanted(t *testing.T) {
+	trees, _ := someTrees(t, 2)
+	whole := 0
+	for range all(trees) {
+		whole++
+	}
+	for wanted := 1; wanted <= whole; wanted++ {
+		seen := 0
+		for range all(trees) {
+			seen++
+			if seen == wanted {
+				break
+			}
+		}
+		if seen != wanted {
+			t.Errorf("%d nodes were seen, %d were wanted", seen, wanted)
+		}
+	}
+}
+
+func TestAllPassesWhatTreesShareOnce(t *testing.T) {
+	trees, _ := someTrees(t, 32)
+	last := trees[len(trees)-1]
+	once, thrice := 0, 0
+	for range all([]Tree{last}) {
+		once++
+	}
+	for range all([]Tree{last, last, last}) {
+		thrice++
+	}
+	if once != thrice {
+		t.Errorf("of one tree %d nodes are passed, of three that are the same %d", once, thrice)
+	}
+}

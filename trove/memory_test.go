@@ -133,6 +133,54 @@ func TestP2ExtractSharesNothing(t *testing.T) {
 	}
 }
 
+func TestP2DifferSharesNothing(t *testing.T) {
+	l, m := grown(t, 8, rand.New(rand.NewSource(4)), 12)
+	want := changed(m.states[0], m.state)
+	text, _ := l.Delta(0, m.tip())
+	p, pBytes := lent(text)
+	before, beforeBytes := lent(m.headers[0])
+	after, afterBytes := lent(m.headers[m.tip()])
+	first, ok := trove.Differ(8, before, after, p)
+	second, again := trove.Differ(8, before, after, p)
+	if p != text || before != m.headers[0] || after != m.headers[m.tip()] {
+		t.Errorf("P2: Differ wrote into what was handed in")
+	}
+	for _, lentBytes := range [][]byte{pBytes, beforeBytes, afterBytes} {
+		clear(lentBytes)
+	}
+	if !ok || !again || len(want) < 3 || !reflect.DeepEqual(first, want) {
+		t.Errorf("P2: Differ = %v, %v, want %v", first, ok, want)
+	}
+	clear(whole(first))
+	if !reflect.DeepEqual(second, want) {
+		t.Errorf("P2: two answers of Differ share memory: %v, want %v", second, want)
+	}
+}
+
+func TestP2DeltaAnswersAlike(t *testing.T) {
+	for _, width := range []int{1, 32} {
+		l, m := grown(t, width, rand.New(rand.NewSource(6)), 20)
+		first := checkDelta(t, l, m, 0, m.tip())
+		stored := l.Stored()
+		for range 20 {
+			if again, _ := l.Delta(0, m.tip()); again != first {
+				t.Fatalf("P2: Delta answers %x, and then %x", first, again)
+			}
+			if l.Stored() != stored {
+				t.Fatalf("P2: Stored answers %d, and then %d", stored, l.Stored())
+			}
+		}
+		checkAlike(t, l, m)
+	}
+}
+
+func TestP2PruneOfOneLedgerAlone(t *testing.T) {
+	l, m := grown(t, 8, rand.New(rand.NewSource(9)), 10)
+	other, _ := grown(t, 8, rand.New(rand.NewSource(9)), 10)
+	l.Prune(m.tip())
+	checkKept(t, rand.New(rand.NewSource(1)), other, m)
+}
+
 func TestP2LedgersDoNotMeet(t *testing.T) {
 	first := []api.Out{out(5, 1)}
 	a, b := ledger(t, 8, first...), ledger(t, 8, first...)

@@ -17,6 +17,7 @@ type model struct {
 	headers []string
 	states  []map[string]api.Out
 	state   map[string]api.Out // at the tip
+	floor   int
 }
 
 func hash(width int, s string) string {

@@ -11,7 +11,7 @@ import (
 func isCoin(width int, c api.Coin) bool { return len(c.Tx) == width && c.N >= 0 && c.N < api.MaxOuts }
 
 func (m *model) query(height int, c api.Coin) (string, api.Errno) {
-	if height < 0 || height > m.tip() {
+	if height < m.floor || height > m.tip() {
 		return "", api.ErrRange
 	}
 	if !isCoin(m.width, c) {

@@ -70,18 +70,22 @@ func Extract(width int, header string, c api.Coin, p string, q string) (string, 
 }
 
 // Delta proves what is different at two heights (P11).
-func (l *Ledger) Delta(a int, b int) (string, api.Errno) { return "", api.OK }
+func (l *Ledger) Delta(a int, b int) (string, api.Errno) {
+	text, err := l.chain.Delta(a, b)
+	return text, errno(err)
+}
 
 // Differ tells what a proof of differences says, by two headers alone (P12).
 func Differ(width int, before string, after string, proof string) ([]api.Change, bool) {
-	return nil, false
+	changes, err := proofs.Differ(width, before, after, proof)
+	return changes, err == nil
 }
 
 // Prune forgets the states below a height (P13).
-func (l *Ledger) Prune(floor int) api.Errno { return api.OK }
+func (l *Ledger) Prune(floor int) api.Errno { return errno(l.chain.Prune(floor)) }
 
 // Stored tells how many nodes are kept (P13).
-func (l *Ledger) Stored() int { return 0 }
+func (l *Ledger) Stored() int { return l.chain.Stored() }
 
 // Log tells all that was done, as bytes (P14).
 func (l *Ledger) Log() string { return "" }

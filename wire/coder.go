@@ -1,6 +1,8 @@
 package wire
 
 import (
+	"strconv"
+
 	"trove/api"
 	"trove/fault"
 )
@@ -40,6 +42,12 @@ func (c *Coder) Text(s string, size int) string {
 	return s
 }
 
+// Sized is a text behind its length.
+func (c *Coder) Sized(s string) string {
+	size := c.Number(uint64(len(s)), 2)
+	return c.Text(s, int(size))
+}
+
 func (c *Coder) digest(s string) string { return c.Text(s, c.width) }
 
 // Coin is a coin: its key.
@@ -48,7 +56,7 @@ func (c *Coder) Coin(coin api.Coin) api.Coin {
 	// A number below 0 is a very great one here, which no byte holds.
 	n := c.Number(uint64(coin.N), 1)
 	if n >= api.MaxOuts {
-		c.err = fault.Form
+		c.refuse("number")
 	}
 	return api.Coin{Tx: tx, N: int(n)}
 }
@@ -86,6 +94,13 @@ func (c *Coder) Header(h Header) Header {
 	return Header{Height: height, Ahead: ahead, Body: body, State: state}
 }
 
+// refuse tells where something may not be; what was wrong ahead of it stays.
+func (c *Coder) refuse(where string) {
+	if c.err == nil {
+		c.err = fault.At(where, fault.Form)
+	}
+}
+
 // more is whether something comes behind; the port tells, since bytes that are missing are no fault here.
 func (c *Coder) more(m bool) bool { return c.err == nil && c.port.more(m) }
 
@@ -99,8 +114,8 @@ type parts struct {
 // list is how many parts there are, and the parts. It answers a new list: a writer's is not written into.
 func list[T any](c *Coder, of parts, items []T, part func(T) T) []T {
 	count := c.Number(uint64(len(items)), of.size)
-	if c.err == nil && (count < of.least || count > of.most) {
-		c.err = fault.At("number of "+of.what+"s", fault.Form)
+	if count < of.least || count > of.most {
+		c.refuse("number of " + of.what + "s")
 	}
 	if c.err != nil {
 		return nil
@@ -112,4 +127,29 @@ func list[T any](c *Coder, of parts, items []T, part func(T) T) []T {
 		return c.err
 	})
 	return done
+}
+
+// row is parts one behind the other, as many as there are to the end. It answers a new list, too.
+func row[T any](c *Coder, what string, items []T, part func(T) T) []T {
+	var done []T
+	for i := 0; c.more(i < len(items)); i++ {
+		var item T
+		if i < len(items) {
+			item = items[i]
+		}
+		done = append(done, part(item))
+		if c.err != nil {
+			c.err = fault.At(what+" "+strconv.Itoa(i), c.err)
+		}
+	}
+	return done
+}
+
+// rising refuses a list of which a part is not above the one ahead of it.
+func rising[T any](c *Coder, what string, list []T, compare func(a, b T) int) {
+	for i := 1; i < len(list) && c.err == nil; i++ {
+		if compare(list[i-1], list[i]) >= 0 {
+			c.refuse(what + " " + strconv.Itoa(i))
+		}
+	}
 }

@@ -1,14 +1,26 @@
 package wire
 
 import (
-	"strconv"
+	"cmp"
+	"strings"
 
 	"trove/api"
-	"trove/fault"
 )
 
-// EmptyText is the node of a tree of no coins.
-const EmptyText = "E"
+// The letters of the kinds of nodes. The node of no coins is its letter alone.
+const (
+	EmptyLetter  = "E"
+	LeafLetter   = "L"
+	BranchLetter = "N"
+)
+
+// Node is a node of a tree: its letter tells which of the two others it has, if any. Nodes of one width
+// are the same where their texts are.
+type Node struct {
+	Letter string
+	Leaf   Leaf
+	Branch Branch
+}
 
 // Leaf is a node of the kind L: the key of a coin, and its output.
 type Leaf struct {
@@ -36,20 +48,31 @@ type Step struct {
 	Other string
 }
 
-// LeafText is the text of a node of the kind L.
-func LeafText(width int, leaf Leaf) (string, error) {
+// Node is the node of the kind L.
+func (l Leaf) Node() Node { return Node{Letter: LeafLetter, Leaf: l} }
+
+// Node is the node of the kind N.
+func (b Branch) Node() Node { return Node{Letter: BranchLetter, Branch: b} }
+
+// Text is the text of a node.
+func (n Node) Text(width int) (string, error) {
 	w := NewWriter(width)
-	w.Text("L", 1)
-	w.Leaf(leaf)
+	w.Node(n)
 	return w.Done()
 }
 
-// BranchText is the text of a node of the kind N.
-func BranchText(width int, branch Branch) (string, error) {
-	w := NewWriter(width)
-	w.Text("N", 1)
-	w.Branch(branch)
-	return w.Done()
+// Node is a node: its letter, and what is of this kind.
+func (c *Coder) Node(n Node) Node {
+	switch letter := c.Text(n.Letter, 1); letter {
+	case EmptyLetter:
+		return Node{Letter: EmptyLetter}
+	case LeafLetter:
+		return c.Leaf(n.Leaf).Node()
+	case BranchLetter:
+		return c.Branch(n.Branch).Node()
+	}
+	c.refuse("letter")
+	return Node{}
 }
 
 // Leaf is a key and its output.
@@ -70,7 +93,7 @@ func (c *Coder) Branch(b Branch) Branch {
 // Way is a way from the root down.
 func (c *Coder) Way(w Way) Way {
 	steps := list(c, parts{"step", 2, 0, uint64(c.keyBits())}, w.Steps, c.step)
-	c.rising(steps)
+	rising(c, "step", steps, byBits)
 	if len(steps) == 0 && !c.more(w.HasLeaf) {
 		return Way{}
 	}
@@ -83,19 +106,19 @@ func (c *Coder) step(s Step) Step {
 	return Step{Bit: bit, Other: other}
 }
 
-// rising refuses steps that do not go down: each bit must be above the one ahead of it.
-func (c *Coder) rising(steps []Step) {
-	for i := 1; i < len(steps) && c.err == nil; i++ {
-		if steps[i].Bit <= steps[i-1].Bit {
-			c.err = fault.At("step "+strconv.Itoa(i), fault.Form)
-		}
-	}
+func byBits(a, b Step) int { return cmp.Compare(a.Bit, b.Bit) }
+
+// Difference is the texts of nodes, each behind its length, to the end; they rise by their bytes.
+func (c *Coder) Difference(texts []string) []string {
+	texts = row(c, "node", texts, c.Sized)
+	rising(c, "node", texts, strings.Compare)
+	return texts
 }
 
 func (c *Coder) key(key string) string {
 	key = c.Text(key, c.width+1)
 	if c.err == nil && key[c.width] >= api.MaxOuts {
-		c.err = fault.At("key", fault.Form)
+		c.refuse("key")
 	}
 	return key
 }
@@ -105,7 +128,7 @@ func (c *Coder) bit(b int) int {
 	// A number below 0 is a very great one here, which two bytes do not hold.
 	n := c.Number(uint64(b), 2)
 	if n >= uint64(c.keyBits()) {
-		c.err = fault.At("bit", fault.Form)
+		c.refuse("bit")
 	}
 	return int(n)
 }

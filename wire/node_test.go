@@ -11,28 +11,28 @@ import (
 )
 
 func TestTextsOfNodes(t *testing.T) {
-	leaf, err := LeafText(2, Leaf{Key: "ab\x01", Out: api.Out{Amount: 0x0102, Owner: 3}})
+	leaf, err := Leaf{Key: "ab\x01", Out: api.Out{Amount: 0x0102, Owner: 3}}.Node().Text(2)
 	if leaf != "Lab\x01\x00\x00\x00\x00\x00\x00\x01\x02\x03" || err != nil {
-		t.Errorf("LeafText = %x, %v", leaf, err)
+		t.Errorf("a leaf's text = %x, %v", leaf, err)
 	}
-	branch, err := BranchText(31, Branch{Bit: 255, Sides: [2]string{strings.Repeat("a", 31), strings.Repeat("b", 31)}})
+	branch, err := Branch{Bit: 255, Sides: [2]string{strings.Repeat("a", 31), strings.Repeat("b", 31)}}.Node().Text(31)
 	if branch != "N\x00\xff"+strings.Repeat("a", 31)+strings.Repeat("b", 31) || err != nil {
-		t.Errorf("BranchText = %x, %v", branch, err)
+		t.Errorf("a branch's text = %x, %v", branch, err)
 	}
 }
 
 func TestNodesThatAreNotWritten(t *testing.T) {
 	for _, leaf := range []Leaf{{}, {Key: "ab"}, {Key: "ab\x01\x01"}, {Key: "ab\x03"}, {Key: "ab\xff"}} {
-		if text, err := LeafText(2, leaf); text != "" || !errors.Is(err, fault.Form) {
-			t.Errorf("LeafText(%v) = %x, %v", leaf, text, err)
+		if text, err := leaf.Node().Text(2); text != "" || !errors.Is(err, fault.Form) {
+			t.Errorf("the text of %v = %x, %v", leaf, text, err)
 		}
 	}
 	for _, branch := range []Branch{
 		{Bit: 24, Sides: [2]string{"ab", "cd"}}, {Bit: -1, Sides: [2]string{"ab", "cd"}}, {Bit: 1 << 16, Sides: [2]string{"ab", "cd"}},
 		{Sides: [2]string{"a", "cd"}}, {Sides: [2]string{"ab", "cde"}},
 	} {
-		if text, err := BranchText(2, branch); text != "" || !errors.Is(err, fault.Form) {
-			t.Errorf("BranchText(%v) = %x, %v", branch, text, err)
+		if text, err := branch.Node().Text(2); text != "" || !errors.Is(err, fault.Form) {
+			t.Errorf("the text of %v = %x, %v", branch, text, err)
 		}
 	}
 }
@@ -83,5 +83,83 @@ func TestWaysThatAreNone(t *testing.T) {
 	w.Way(Way{Steps: someWay.Steps})
 	if text, err := w.Done(); text != "" || !errors.Is(err, fault.Form) {
 		t.Errorf("a way with steps, but no leaf, is written as %x, %v", text, err)
+	}
+}
+
+func readNode(text string) (Node, error) {
+	r := NewReader(2, text)
+	node := r.Node(Node{})
+	return node, r.Done()
+}
+
+func TestNodesAreReadAsTheyWereWritten(t *testing.T) {
+	for text, node := range map[string]Node{
+		"E": {Letter: "E"},
+		"Lab\x01\x00\x00\x00\x00\x00\x00\x01\x02\x03": Leaf{Key: "ab\x01", Out: api.Out{Amount: 0x0102, Owner: 3}}.Node(),
+		"N\x00\x17abcd": Branch{Bit: 23, Sides: [2]string{"ab", "cd"}}.Node(),
+	} {
+		if got, err := node.Text(2); got != text || err != nil {
+			t.Errorf("the text of %v = %x, %v, want %x", node, got, err, text)
+		}
+		if got, err := readNode(text); got != node || err != nil {
+			t.Errorf("%x is read as %v, %v, want %v", text, got, err, node)
+		}
+		for n := range len(text) {
+			if got, err := readNode(text[:n]); !errors.Is(err, fault.Form) {
+				t.Errorf("%x is read as %v, %v", text[:n], got, err)
+			}
+		}
+		for _, bad := range []string{text + "\x00", "e" + text[1:], "\x00" + text} {
+			if got, err := readNode(bad); !errors.Is(err, fault.Form) {
+				t.Errorf("%x is read as %v, %v", bad, got, err)
+			}
+		}
+	}
+	for _, node := range []Node{{}, {Letter: "X"}, {Letter: "EE"}, {Letter: "L"}, {Letter: "N"}} {
+		if text, err := node.Text(2); text != "" || !errors.Is(err, fault.Form) {
+			t.Errorf("the text of %v = %x, %v", node, text, err)
+		}
+	}
+}
+
+func readDifference(text string) ([]string, error) {
+	r := NewReader(2, text)
+	texts := r.Difference(nil)
+	return texts, r.Done()
+}
+
+func TestDifferencesAreReadAsTheyWereWritten(t *testing.T) {
+	long := strings.Repeat("z", 300)
+	for text, parts := range map[string][]string{
+		"":                                   nil,
+		"\x00\x01a":                          {"a"},
+		"\x00\x01a\x00\x02ab\x01\x2c" + long: {"a", "ab", long},
+		"\x00\x00\x00\x01a":                  {"", "a"},
+	} {
+		if got := written(t, 2, func(w *Writer) { w.Difference(parts) }); got != text {
+			t.Errorf("%q is written as %x, want %x", parts, got, text)
+		}
+		if got, err := readDifference(text); !reflect.DeepEqual(got, parts) || err != nil {
+			t.Errorf("%x is read as %q, %v, want %q", text, got, err, parts)
+		}
+	}
+}
+
+func TestDifferencesThatAreNone(t *testing.T) {
+	for _, text := range []string{"\x00", "\x00\x01", "\x00\x02a", "\x00\x01a\x00", "\x00\x01b\x00\x01a", "\x00\x01a\x00\x01a", "\x00\x02ab\x00\x01a", "\xff\xffa"} {
+		if got, err := readDifference(text); !errors.Is(err, fault.Form) {
+			t.Errorf("%x is read as %q, %v", text, got, err)
+		}
+	}
+	_, err := readDifference("\x00\x01a\x00\x01b\x00\x02c")
+	if want := "node 2: " + fault.Form.Error(); err == nil || err.Error() != want {
+		t.Errorf("told is %v, want %s", err, want)
+	}
+	for _, parts := range [][]string{{"b", "a"}, {"a", "a"}, {strings.Repeat("a", 1<<16)}} {
+		w := NewWriter(2)
+		w.Difference(parts)
+		if text, err := w.Done(); text != "" || !errors.Is(err, fault.Form) {
+			t.Errorf("%.20q is written as %x, %v", parts, text, err)
+		}
 	}
 }
