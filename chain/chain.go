@@ -17,6 +17,7 @@ type Chain struct {
 	floor int
 	// By the height: ids of headers may meet, where the width is small.
 	blocks map[int]block
+	log    []byte
 }
 
 // block is what is kept of a block; below the floor its header alone.
@@ -47,7 +48,11 @@ func New(width int, outs []api.Out) (*Chain, error) {
 	if err != nil {
 		return nil, err
 	}
-	return &Chain{width: width, blocks: map[int]block{0: {header, state}}}, nil
+	c := &Chain{width: width, blocks: map[int]block{0: {header, state}}}
+	if err := c.recordStart(outs); err != nil {
+		return nil, err
+	}
+	return c, nil
 }
 
 // Tip tells the height of the last block.
@@ -85,6 +90,9 @@ func (c *Chain) Delta(a, b int) (string, error) {
 func (c *Chain) Prune(floor int) error {
 	if _, err := c.stateAt(floor); err != nil {
 		return fault.At("floor", err)
+	}
+	if err := c.recordFloor(floor); err != nil {
+		return err
 	}
 	for ; c.floor < floor; c.floor++ {
 		c.blocks[c.floor] = block{header: c.blocks[c.floor].header}
@@ -159,6 +167,9 @@ func (c *Chain) Submit(text string) error {
 	}
 	if header.State != state.Digest() {
 		return fault.At("header", fault.Root)
+	}
+	if err := c.record(wire.BlockLetter, text); err != nil {
+		return err
 	}
 	headerText := text[:len(text)-len(body)]
 	// A copy, since nothing that is handed in may be kept.

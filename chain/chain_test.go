@@ -8,6 +8,7 @@ import (
 	"trove/api"
 	"trove/fault"
 	"trove/tree"
+	"trove/wire"
 )
 
 func TestErrorsAreWrappedWithTheirPlaces(t *testing.T) {
@@ -76,5 +77,99 @@ func TestPruneForgetsTheStatesAlone(t *testing.T) {
 		if _, err := c.Delta(x[0], x[1]); !errors.Is(err, fault.Range) {
 			t.Errorf("Delta(%v) tells %v", x, err)
 		}
+	}
+}
+
+func TestOpenTellsWhereItStops(t *testing.T) {
+	c, err := New(4, []api.Out{{Amount: 5, Owner: 1}})
+	if err != nil {
+		t.Fatal(err)
+	}
+	block, _ := c.Seal(nil)
+	if err := c.Submit(block); err != nil {
+		t.Fatal(err)
+	}
+	log := c.Log()
+	for _, x := range []struct {
+		log   string
+		end   int
+		cause error
+		place string
+	}{
+		{"", 0, fault.Form, "beginning: "},
+		{log[:17], 0, fault.Form, "beginning: "},
+		{log[18:], 0, fault.Form, "beginning: "},
+		{log + "B", len(log), fault.Torn, "byte 42: "},
+		{log[:len(log)-1], 18, fault.Torn, "byte 18: "},
+		{log[:18] + log, 18, fault.Torn, "byte 18: "},
+		{log + log[18:], len(log), fault.Torn, "byte 42: "},
+	} {
+		opened, end, err := Open(x.log)
+		if (opened == nil) != (x.end == 0) || end != x.end || !errors.Is(err, x.cause) || !strings.HasPrefix(err.Error(), x.place) {
+			t.Errorf("Open of %x = %v, %d, %v, want %d, %s%v", x.log, opened != nil, end, err, x.end, x.place, x.cause)
+		}
+	}
+	if opened, end, err := Open(log); opened == nil || end != 42 || err != nil || opened.Log() != log {
+		t.Errorf("Open of a whole log = %v, %d, %v", opened != nil, end, err)
+	}
+}
+
+func TestRecordsThatCannotBeDone(t *testing.T) {
+	c, err := New(4, []api.Out{{Amount: 5, Owner: 1}})
+	if err != nil {
+		t.Fatal(err)
+	}
+	log := c.Log()
+	for _, x := range []struct {
+		letter, content string
+		cause           error
+		place           string
+	}{
+		{"G", log[3:14], fault.Form, "letter: "},
+		{"B", "", fault.Form, "block: "},
+		{"P", "\x00\x00\x00", fault.Form, "floor: "},
+		{"P", "\x00\x00\x00\x00\x00", fault.Form, "floor: behind the end: "},
+		{"P", "\x00\x00\x00\x01", fault.Range, "floor: height: "},
+		{"", "", fault.Form, "letter: "},
+	} {
+		same, err := redo(c, wire.Record{Letter: x.letter, Content: x.content})
+		if same != c || !errors.Is(err, x.cause) || !strings.HasPrefix(err.Error(), x.place) || c.Log() != log {
+			t.Errorf("the record %s of %x is told as %v, want %s%v", x.letter, x.content, err, x.place, x.cause)
+		}
+	}
+	for content, place := range map[string]string{
+		"\x04\x00":             "start: number of outputs: ",
+		log[3:14] + "\x00":     "start: behind the end: ",
+		"\x00" + log[4:14]:     "width: ",
+		"\x21" + log[4:14]:     "width: ",
+		log[3:13]:              "start: output 0: ",
+		"":                     "start: ",
+		"\x04\x02" + log[5:14]: "start: output 1: ",
+	} {
+		none, err := redo(nil, wire.Record{Letter: wire.StartLetter, Content: content})
+		if none != nil || !errors.Is(err, fault.Form) || !strings.HasPrefix(err.Error(), place) {
+			t.Errorf("the first record of %x is told as %v, want %s", content, err, place)
+		}
+	}
+	if none, err := redo(nil, wire.Record{Letter: wire.BlockLetter, Content: log[3:14]}); none != nil || !errors.Is(err, fault.Form) {
+		t.Errorf("a first record of another kind is told as %v", err)
+	}
+}
+
+// TestWhatCannotBePutDownChangesNothing has a content that is too long for a record.
+func TestWhatCannotBePutDownChangesNothing(t *testing.T) {
+	c, err := New(4, []api.Out{{Amount: 5, Owner: 1}})
+	if err != nil {
+		t.Fatal(err)
+	}
+	log := c.Log()
+	if err := c.record(wire.BlockLetter, strings.Repeat("a", 1<<16)); !errors.Is(err, fault.Form) || c.Log() != log {
+		t.Errorf("a record that is too long: %v", err)
+	}
+	if err := c.recordFloor(1 << 32); !errors.Is(err, fault.Form) || c.Log() != log {
+		t.Errorf("a floor that is too great: %v", err)
+	}
+	if err := c.recordStart(nil); !errors.Is(err, fault.Form) || c.Log() != log {
+		t.Errorf("no first outputs: %v", err)
 	}
 }

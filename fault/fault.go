@@ -15,6 +15,7 @@ var (
 	Sum    = errors.New("more goes out than comes in, or a sum is too great")
 	Root   = errors.New("not the state that was told")
 	Range  = errors.New("a height that is not kept")
+	Torn   = errors.New("bytes that are no records which can be done")
 	Astray = errors.New("a way that does not lead to the coin")
 	Alike  = errors.New("nothing that is different")
 	Twice  = errors.New("what may be there but once")

@@ -266,7 +266,7 @@ func TestP7EveryChangedByte(t *testing.T) {
 		m.submit(take(t, l))
 		x := pay(firstCoin(width, 0, first), out(2, 2), out(3, 3))
 		good, _ := l.Seal([]api.Tx{x, pay(madeCoin(width, x, 1))})
-		for i := range good {
+		for i := range len(good) {
 			for _, turn := range []byte{1, 2, 128, 255} {
 				bad := []byte(good)
 				bad[i] ^= turn

@@ -62,6 +62,7 @@ func (m *model) prune(floor int) api.Errno {
 		return api.ErrRange
 	}
 	m.floor = floor
+	m.log += record("P", num(uint64(floor), 4))
 	return api.OK
 }
 

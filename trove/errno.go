@@ -24,6 +24,8 @@ func errno(err error) api.Errno {
 		return api.ErrRoot
 	case errors.Is(err, fault.Range):
 		return api.ErrRange
+	case errors.Is(err, fault.Torn):
+		return api.ErrTorn
 	case errors.Is(err, fault.Form):
 		return api.ErrForm
 	}

@@ -188,3 +188,69 @@ func TestP2LedgersDoNotMeet(t *testing.T) {
 	checkAlike(t, b, newModel(8, first))
 	take(t, b, pay(firstCoin(8, 0, first), out(5, 2)))
 }
+
+func TestP2OpenKeepsNothing(t *testing.T) {
+	for _, width := range []int{2, 32} {
+		_, m := pruned(t, width, rand.New(rand.NewSource(int64(width))), 12)
+		log, bytes := lent(m.log)
+		l, place, e := trove.Open(log)
+		if l == nil || place != len(m.log) || e != api.OK || log != m.log {
+			t.Fatalf("P15: Open of a log = %v, %d, %d", l != nil, place, e)
+		}
+		clear(bytes)
+		r := rand.New(rand.NewSource(1))
+		checkKept(t, r, l, m)
+		if e := m.submit(take(t, l)); e != api.OK {
+			t.Errorf("P2: Open kept what was handed in: the next block is refused: %d", e)
+		}
+		checkKept(t, r, l, m)
+	}
+}
+
+func TestP2SubmitKeepsNothingForTheLog(t *testing.T) {
+	l, m := ledger(t, 8, out(5, 1)), newModel(8, []api.Out{out(5, 1)})
+	for range 3 {
+		sealed, _ := m.seal(nil)
+		m.submit(sealed)
+		block, bytes := lent(sealed)
+		if e := l.Submit(block); e != api.OK {
+			t.Fatalf("P7: Submit = %d", e)
+		}
+		clear(bytes)
+		checkAlike(t, l, m)
+	}
+}
+
+// TestP2LogsStay has logs of many lengths: what was told is not written into by what is put down behind it.
+func TestP2LogsStay(t *testing.T) {
+	l := ledger(t, 1, out(5, 1))
+	var logs []string
+	for range 50 {
+		logs = append(logs, l.Log())
+		take(t, l)
+		logs = append(logs, l.Log())
+		l.Prune(l.Tip())
+	}
+	whole := l.Log()
+	for i, log := range logs {
+		if log != whole[:len(log)] || i > 0 && len(log) <= len(logs[i-1]) {
+			t.Fatalf("P2: a log that was told is now %x, want the beginning of %x", log, whole)
+		}
+	}
+	if again := l.Log(); again != whole {
+		t.Errorf("P2: Log() answers %x, and then %x", whole, again)
+	}
+}
+
+func TestP2LedgersOfOneLogDoNotMeet(t *testing.T) {
+	_, m := pruned(t, 4, rand.New(rand.NewSource(2)), 10)
+	a, _, _ := trove.Open(m.log)
+	b, _, _ := trove.Open(m.log)
+	take(t, a)
+	if e := a.Prune(a.Tip()); e != api.OK {
+		t.Errorf("P13: Prune = %d", e)
+	}
+	checkKept(t, rand.New(rand.NewSource(1)), b, m)
+	m.submit(take(t, b))
+	checkKept(t, rand.New(rand.NewSource(1)), b, m)
+}

@@ -18,6 +18,7 @@ type model struct {
 	states  []map[string]api.Out
 	state   map[string]api.Out // at the tip
 	floor   int
+	log     string
 }
 
 func hash(width int, s string) string {
@@ -109,6 +110,7 @@ func newModel(width int, outs []api.Out) *model {
 	}
 	m.headers = []string{num(0, 4) + strings.Repeat("\x00", width) + firstCoin(width, 0, outs).Tx + root(width, m.state)}
 	m.states = append(m.states, m.state)
+	m.log = record("G", num(uint64(width), 1)+outsText(outs))
 	return m
 }
 
@@ -233,5 +235,6 @@ func (m *model) submit(block string) api.Errno {
 		return api.ErrRoot
 	}
 	m.headers, m.states, m.state = append(m.headers, header), append(m.states, state), state
+	m.log += record("B", block)
 	return api.OK
 }

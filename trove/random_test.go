@@ -115,6 +115,9 @@ func checkAlike(t *testing.T, l *trove.Ledger, m *model) {
 			t.Fatalf("P5: Header(%d) = %x, %d", height, h, e)
 		}
 	}
+	if log := l.Log(); log != m.log {
+		t.Fatalf("P14: Log() = %x, want %x", log, m.log)
+	}
 }
 
 func TestAgainstTheModel(t *testing.T) {

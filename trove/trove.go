@@ -88,7 +88,13 @@ func (l *Ledger) Prune(floor int) api.Errno { return errno(l.chain.Prune(floor))
 func (l *Ledger) Stored() int { return l.chain.Stored() }
 
 // Log tells all that was done, as bytes (P14).
-func (l *Ledger) Log() string { return "" }
+func (l *Ledger) Log() string { return l.chain.Log() }
 
 // Open makes a ledger of a log's bytes, as far as they are whole (P15).
-func Open(log string) (*Ledger, int, api.Errno) { return nil, 0, api.OK }
+func Open(log string) (*Ledger, int, api.Errno) {
+	c, place, err := chain.Open(log)
+	if c == nil {
+		return nil, 0, errno(err)
+	}
+	return &Ledger{chain: c}, place, errno(err)
+}

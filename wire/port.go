@@ -4,33 +4,36 @@ package wire
 import "trove/fault"
 
 // Port is what a reader and a writer have in common: a number or a text, at the place where it stands,
-// and whether there is more behind it. A reader answers what is there, whatever it is given; a writer puts
-// down what it is given, and answers that.
+// whether there is more behind it, and the bytes that were passed. A reader answers what is there, whatever it
+// is given; a writer puts down what it is given, and answers that.
 type Port interface {
 	number(n uint64, size int) (uint64, error)
 	text(s string, size int) (string, error)
 	more(m bool) bool
+	place() int
+	since(place int) string
 }
 
 // Reader takes things from bytes.
 type Reader struct {
 	Coder
-	rest string
+	bytes string
+	at    int
 }
 
 // NewReader reads the bytes of a ledger of a width. The texts that it answers are pieces of them: copy what is kept.
 func NewReader(width int, bytes string) *Reader {
-	r := &Reader{rest: bytes}
+	r := &Reader{bytes: bytes}
 	r.Coder = Coder{port: r, width: width}
 	return r
 }
 
 // Rest tells the bytes that were not read yet.
-func (r *Reader) Rest() string { return r.rest }
+func (r *Reader) Rest() string { return r.bytes[r.at:] }
 
 // Done tells what was wrong: also, if there are bytes behind what was read.
 func (r *Reader) Done() error {
-	if r.err == nil && r.rest != "" {
+	if r.err == nil && r.more(true) {
 		return fault.At("behind the end", fault.Form)
 	}
 	return r.err
@@ -46,15 +49,19 @@ func (r *Reader) number(_ uint64, size int) (uint64, error) {
 }
 
 func (r *Reader) text(_ string, size int) (string, error) {
-	if len(r.rest) < size {
+	if len(r.bytes)-r.at < size {
 		return "", fault.Form
 	}
-	s := r.rest[:size]
-	r.rest = r.rest[size:]
-	return s, nil
+	start := r.at
+	r.at += size
+	return r.since(start), nil
 }
 
-func (r *Reader) more(bool) bool { return r.rest != "" }
+func (r *Reader) more(bool) bool { return r.at < len(r.bytes) }
+
+func (r *Reader) place() int { return r.at }
+
+func (r *Reader) since(place int) string { return r.bytes[place:r.at] }
 
 // Writer makes bytes of things.
 type Writer struct {
@@ -96,3 +103,7 @@ func (w *Writer) text(s string, size int) (string, error) {
 }
 
 func (w *Writer) more(m bool) bool { return m }
+
+func (w *Writer) place() int { return len(w.bytes) }
+
+func (w *Writer) since(place int) string { return string(w.bytes[place:]) }
